@@ -1,0 +1,1 @@
+"""Crossfarers: travellers who exchange the rest of their plans where they meet."""

@@ -1,0 +1,47 @@
+"""What several files of the package check in the same way."""
+
+from crossfarers.errors import BadShape, UnknownTown, UnknownTraveller
+from crossfarers.shapes import is_name, is_tuple_of
+
+
+def check(fits, parameter):
+    """Raise BadShape of the parameter unless its value fits."""
+    if not fits:
+        raise BadShape(parameter)
+
+
+def check_town(towns, town):
+    """Raise UnknownTown unless the town is among the towns, which are a web or a list."""
+    if town not in towns:
+        raise UnknownTown(town)
+
+
+def check_traveller(world, name):
+    """Raise UnknownTraveller unless the world has the traveller."""
+    if name not in world:
+        raise UnknownTraveller(name)
+
+
+def is_series(value):
+    """Tell whether the value is a list or a tuple."""
+    return isinstance(value, (list, tuple))
+
+
+def are_name_pairs(value):
+    """Tell whether the value is a list or tuple of tuples of two names."""
+    return is_series(value) and all([is_tuple_of(pair, 2) and are_names(pair) for pair in value])
+
+
+def are_names(values):
+    """Tell whether all parts of a list or tuple are names."""
+    return all([is_name(value) for value in values])
+
+
+def first_repeated(things):
+    """Return the first thing that stood before, or None if there is none."""
+    seen = set()
+    for thing in things:
+        if thing in seen:
+            return thing
+        seen.add(thing)
+    return None

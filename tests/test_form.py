@@ -1,0 +1,96 @@
+"""The form of the package: what stands where, and the sizes that LANGUAGE.md allows."""
+
+import ast
+import pathlib
+import unittest
+
+PACKAGE = pathlib.Path(__file__).resolve().parent.parent / "crossfarers"
+FUNCTIONS = {
+    "shapes": ("is_name", "is_place", "is_day", "is_number", "is_plan", "is_crossing", "is_leg", "is_deed",
+               "is_history", "is_sighting"),
+    "worlds": ("check_frames",),
+}
+METHODS = {
+    "bags": {"Bag": ("__init__", "__getitem__", "__contains__", "__iter__", "__add__", "__sub__", "__eq__", "many",
+                     "kinds", "things", "within", "first_unlike")},
+    "worlds": {
+        "Web": ("__init__", "full", "chain", "towns", "ways", "joins", "near", "__contains__", "__iter__", "__eq__"),
+        "World": ("__init__", "web", "names", "plans", "rows", "last_day", "__getitem__", "place", "begin", "last",
+                  "rest", "__contains__", "__iter__", "__eq__"),
+    },
+}
+LIBRARY = {"math": ("factorial",)}
+
+
+def trees():
+    """Return the pairs of a file's name and its parsed code."""
+    return [(path.stem, ast.parse(path.read_text())) for path in sorted(PACKAGE.glob("*.py"))]
+
+
+def defined(body, kind):
+    """Return the names that a body defines as functions or classes."""
+    return [part.name for part in body if isinstance(part, kind)]
+
+
+class FormTest(unittest.TestCase):
+    def test_the_folder_contains_code_only(self):
+        names = [path.name for path in PACKAGE.iterdir() if path.name != "__pycache__"]
+        self.assertIn("__init__.py", names)
+        self.assertTrue(all(name.endswith(".py") for name in names))
+        self.assertLessEqual(len(names), 100)
+
+    def test_sizes_and_characters(self):
+        for path in sorted(PACKAGE.glob("*.py")):
+            text = path.read_text()
+            lines = text.split("\n")
+            self.assertLessEqual(len(lines), 399, path.name)
+            self.assertLessEqual(max(len(line) for line in lines), 120, path.name)
+            self.assertTrue(all(" " <= sign <= "~" or sign == "\n" for sign in text), path.name)
+
+    def test_functions_are_small_and_unadorned(self):
+        for name, tree in trees():
+            for part in ast.walk(tree):
+                if isinstance(part, ast.FunctionDef):
+                    self.assertLessEqual(part.end_lineno - part.lineno + 1, 40, (name, part.name))
+                    adorned = [ast.unparse(line) for line in part.decorator_list]
+                    self.assertIn(adorned, [[], ["property"], ["classmethod"]], (name, part.name))
+
+    def test_imports_come_from_the_package(self):
+        homes = {name: defined(tree.body, (ast.FunctionDef, ast.ClassDef)) for name, tree in trees()}
+        for name, tree in trees():
+            for part in ast.walk(tree):
+                self.assertNotIsInstance(part, ast.Import, name)
+                if not isinstance(part, ast.ImportFrom):
+                    continue
+                self.assertEqual(part.level, 0, name)
+                if part.module in LIBRARY:
+                    self.assertTrue(all(word.name in LIBRARY[part.module] for word in part.names), name)
+                    continue
+                folder, _, home = part.module.partition(".")
+                self.assertEqual(folder, "crossfarers", name)
+                for word in part.names:
+                    self.assertIsNone(word.asname, name)
+                    self.assertTrue(word.name in homes[home] or word.name.isupper(), (name, word.name))
+
+    def test_the_interface_is_defined_in_its_files(self):
+        bodies = {name: tree.body for name, tree in trees()}
+        for name, functions in FUNCTIONS.items():
+            for function in functions:
+                self.assertIn(function, defined(bodies[name], ast.FunctionDef))
+        for name, classes in METHODS.items():
+            found = {part.name: part.body for part in bodies[name] if isinstance(part, ast.ClassDef)}
+            for word, methods in classes.items():
+                for method in methods:
+                    self.assertIn(method, defined(found[word], ast.FunctionDef))
+
+    def test_nothing_is_iterated_as_a_set_or_kept_at_module_level(self):
+        for name, tree in trees():
+            for part in tree.body:
+                self.assertIsInstance(
+                    part, (ast.Expr, ast.ImportFrom, ast.FunctionDef, ast.ClassDef, ast.Assign), name)
+                if isinstance(part, ast.Assign):
+                    self.assertIsInstance(ast.literal_eval(part.value), (int, str), name)
+
+
+if __name__ == "__main__":
+    unittest.main()
