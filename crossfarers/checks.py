@@ -45,3 +45,8 @@ def first_repeated(things):
             return thing
         seen.add(thing)
     return None
+
+
+def are_unlike(things):
+    """Tell whether no thing stands twice."""
+    return first_repeated(things) is None

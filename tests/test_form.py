@@ -1,6 +1,7 @@
 """The form of the package: what stands where, and the sizes that LANGUAGE.md allows."""
 
 import ast
+import builtins
 import pathlib
 import unittest
 
@@ -9,6 +10,12 @@ FUNCTIONS = {
     "shapes": ("is_name", "is_place", "is_day", "is_number", "is_plan", "is_crossing", "is_leg", "is_deed",
                "is_history", "is_sighting"),
     "worlds": ("check_frames",),
+    "orders": ("arrangements", "arrangement_rank", "arrangement_of", "circuits", "cost", "exchanges", "mixed_number",
+               "mixed_digits"),
+    "texts": ("world_text", "read_world"),
+    "changes": ("renamed", "shifted", "town_joined", "chosen", "united"),
+    "ledgers": ("legs_of", "plan_of", "ledger_of", "starts_of", "standing", "users", "crossings_of", "sizes",
+                "first_unbalanced", "world_of"),
 }
 METHODS = {
     "bags": {"Bag": ("__init__", "__getitem__", "__contains__", "__iter__", "__add__", "__sub__", "__eq__", "many",
@@ -83,7 +90,19 @@ class FormTest(unittest.TestCase):
                 for method in methods:
                     self.assertIn(method, defined(found[word], ast.FunctionDef))
 
-    def test_nothing_is_iterated_as_a_set_or_kept_at_module_level(self):
+    def test_names_are_not_given_another_meaning(self):
+        for name, tree in trees():
+            taken = set(dir(builtins)) | set(defined(tree.body, ast.ClassDef))
+            for part in ast.walk(tree):
+                if isinstance(part, ast.ImportFrom):
+                    taken.update(word.name for word in part.names)
+            for part in ast.walk(tree):
+                if isinstance(part, ast.arg):
+                    self.assertNotIn(part.arg, taken, name)
+                if isinstance(part, ast.Name) and isinstance(part.ctx, ast.Store):
+                    self.assertNotIn(part.id, taken, name)
+
+    def test_module_level_holds_definitions_and_plain_constants(self):
         for name, tree in trees():
             for part in tree.body:
                 self.assertIsInstance(
