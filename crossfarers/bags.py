@@ -2,6 +2,7 @@
 
 from crossfarers.checks import check, is_series
 from crossfarers.errors import Lacking
+from crossfarers.shapes import is_whole
 
 
 class Bag:
@@ -18,7 +19,7 @@ class Bag:
         return self._numbers.get(at, 0)
 
     def __contains__(self, x):
-        return x in self._numbers
+        return is_thing(x) and x in self._numbers
 
     def __iter__(self):
         return iter(self._numbers.items())
@@ -76,3 +77,10 @@ def counted(numbers):
     bag = Bag()
     bag._numbers = {thing: numbers[thing] for thing in sorted(numbers) if numbers[thing] > 0}
     return bag
+
+
+def is_thing(value):
+    """Tell whether the value is a text, a whole number or a tuple of things."""
+    if isinstance(value, tuple):
+        return all([is_thing(part) for part in value])
+    return isinstance(value, str) or is_whole(value)

@@ -33,6 +33,13 @@ class BagsTest(Case):
         self.same([0 in Bag([0]), 1 in Bag([0]), (0, "m", "-") in Bag(LEGS), (1, "m", "-") in Bag(LEGS)],
                   [True, False, True, False])
 
+    def test_in_raises_nothing(self):
+        for bag in (Bag(["a"]), Bag([1, 0]), Bag(LEGS), Bag(RESTS), Bag(DEEP), Bag()):
+            for value in (None, True, False, [], {}, ["a"], {"a": 1}, ([],), (0, ["m"], "p"), ("m", [])):
+                self.assertIs(value in bag, False)
+        self.same([DEEP[0] in Bag(DEEP), RESTS[1] in Bag(RESTS), (1, ("a", (2, ("b", 2)))) in Bag(DEEP)],
+                  [True, True, False])
+
     def test_a_thing_taken_away_wholly_is_not_in_the_bag(self):
         bag = Bag(["a", "b"]) - Bag(["a"])
         self.same(["a" in bag, bag["a"], list(bag), bag.kinds, bag.many], [False, 0, [("b", 1)], 1, 1])
