@@ -16,6 +16,13 @@ FUNCTIONS = {
     "changes": ("renamed", "shifted", "town_joined", "chosen", "united"),
     "ledgers": ("legs_of", "plan_of", "ledger_of", "starts_of", "standing", "users", "crossings_of", "sizes",
                 "first_unbalanced", "world_of"),
+    "deeds": ("done", "refusal", "crossing_of", "is_idle", "deeds_of", "deed_count", "replay", "worlds_along",
+              "is_leading", "cut_history", "chained", "back", "neighbours_exchanged"),
+    "threads": ("threads_of", "history_of", "joinings_of", "world_of_joinings", "split_history", "order_of",
+                "shuffled", "normal_form", "histories_alike", "shortened"),
+    "verdicts": ("one_class", "unlike_legs", "verdict", "is_verdict", "sorted_history", "check_class"),
+    "fewest": ("map_count", "maps_on", "step_cost", "row_cost", "fewest", "day_bound", "least_row", "least_history",
+               "bound_table", "is_bound_table", "is_least_history"),
 }
 METHODS = {
     "bags": {"Bag": ("__init__", "__getitem__", "__contains__", "__iter__", "__add__", "__sub__", "__eq__", "many",
