@@ -76,24 +76,33 @@ def world_of(web, starts, legs):
     if unbalanced is not None:
         crossing, many, others = unbalanced
         raise Unbalanced(crossing, many, others)
-    return World(web, first_plans(starts, legs))
+    return world_led_on(web, {name: (town,) for name, town in starts}, legs)
 
 
-def first_plans(starts, legs):
-    """Return the plans of the first world of starts and legs that balance."""
-    plans = {name: (town,) for name, town in starts}
+def led_on(rows, legs):
+    """Return the dict of the rows of stops, led on by the legs; least travellers and legs go first.
+
+    A row that ends with END has settled. The legs may lead all others to END, or only some of them, and not as far.
+    """
+    found = {name: row for name, row in rows.items()}
     waiting = {}
-    for name, town in starts:
-        waiting.setdefault((0, town), []).append(name)
+    for name, row in rows.items():
+        if row[-1] != END:
+            waiting.setdefault((len(row) - 1, row[-1]), []).append(name)
     # The legs ascend, so all legs that lead to a crossing are taken before the first one that leaves it.
     for day, here, there in legs.things():
         names = waiting[(day, here)]
         name = min(names)
         names.remove(name)
+        found[name] = found[name] + (there,)
         if there != END:
-            plans[name] = plans[name] + (there,)
             waiting.setdefault((day + 1, there), []).append(name)
-    return plans
+    return found
+
+
+def world_led_on(web, rows, legs):
+    """Return the world whose travellers begin with the rows and are led on by the legs until all have settled."""
+    return World(web, {name: row[:-1] for name, row in led_on(rows, legs).items()})
 
 
 def leaving(legs):

@@ -44,6 +44,20 @@ def full_world(many):
     return World(web, plans)
 
 
+def pacing_world(last):
+    """Return a world with 24, 24, 12 and 24 maps on days 0 to 3, and later one map, up to the last day."""
+    rest = ("u",) * (last - 2)
+    plans = {"ann": ("m",) * 4, "bob": ("m",) * 4, "cat": ("m",) * 4, "dan": ("m",) * 3 + rest,
+             "eve": ("p", "p", "p", "m"), "fay": ("q", "q", "p", "m", "p")}
+    return World(Web.full(["m", "p", "q", "u"]), plans)
+
+
+def same_plans(*groups):
+    """Return a world with groups of travellers with equal plans."""
+    names = iter("abcdef")
+    return World(Web.full(list("mpqu")), {next(names): plan for plan, many in groups for _ in range(many)})
+
+
 def small_worlds(many, last=2, towns="mp"):
     """Return all worlds of this many travellers in the full web of these towns, with plans up to a last day."""
     web = Web.full(list(towns))

@@ -15,7 +15,8 @@ from crossfarers.ledgers import legs_of
 from crossfarers.worlds import Web, World
 from tests.helpers import Case
 from tests.samples import (
-    NO_DAYS, NO_HISTORIES, NO_NUMBERS, example, meeting_world, reached, small_worlds, some_history, worlds_reached,
+    NO_DAYS, NO_HISTORIES, NO_NUMBERS, example, meeting_world, pacing_world, reached, same_plans, small_worlds,
+    some_history, worlds_reached,
 )
 
 NO_IMAGES = (
@@ -73,20 +74,6 @@ def pairs_of_worlds():
     for world in [meeting_world(), *example(), *small_worlds(2)[::9], *small_worlds(3, 1)[::19]]:
         found.extend([(world, target, number) for target, number in worlds_reached(world)])
     return found
-
-
-def pacing_world(last):
-    """Return a world with 24, 24, 12 and 24 maps on days 0 to 3, and later one map, up to the last day."""
-    rest = ("u",) * (last - 2)
-    plans = {"ann": ("m",) * 4, "bob": ("m",) * 4, "cat": ("m",) * 4, "dan": ("m",) * 3 + rest,
-             "eve": ("p", "p", "p", "m"), "fay": ("q", "q", "p", "m", "p")}
-    return World(Web.full(["m", "p", "q", "u"]), plans)
-
-
-def same_plans(*groups):
-    """Return a world with groups of travellers with equal plans."""
-    names = iter("abcdef")
-    return World(Web.full(list("mpqu")), {next(names): plan for plan, many in groups for _ in range(many)})
 
 
 class MapsTest(Case):

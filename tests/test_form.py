@@ -23,6 +23,12 @@ FUNCTIONS = {
     "verdicts": ("one_class", "unlike_legs", "verdict", "is_verdict", "sorted_history", "check_class"),
     "fewest": ("map_count", "maps_on", "step_cost", "row_cost", "fewest", "day_bound", "least_row", "least_history",
                "bound_table", "is_bound_table", "is_least_history"),
+    "lengths": ("length_rule", "settling_pair", "parity", "has_length", "lengths_upto", "history_of_length"),
+    "classes": ("class_count", "crossing_counts", "rank_of", "world_of_rank", "class_worlds", "check_small",
+                "deed_graph", "distances", "walk_numbers", "between"),
+    "wishes": ("grant", "is_grant", "overbooked", "most_wishes", "meets", "world_met"),
+    "flows": ("passing", "most", "most_world", "least_cut", "cut_size", "is_cut", "may_pass", "must_pass",
+              "way_through", "way_around", "bring_history"),
 }
 METHODS = {
     "bags": {"Bag": ("__init__", "__getitem__", "__contains__", "__iter__", "__add__", "__sub__", "__eq__", "many",
@@ -33,7 +39,7 @@ METHODS = {
                   "rest", "__contains__", "__iter__", "__eq__"),
     },
 }
-LIBRARY = {"math": ("factorial",)}
+LIBRARY = {"math": ("factorial",), "itertools": ("combinations",)}
 
 
 def trees():
