@@ -1,6 +1,8 @@
 """Worlds made of worlds: renamed, shifted, joined, chosen, united."""
 
-from crossfarers.checks import are_name_pairs, are_names, are_unlike, check, check_town, check_traveller, first_repeated
+from crossfarers.checks import (
+    are_name_pairs, are_unlike, check, check_town, check_traveller, first_repeated, is_name_list,
+)
 from crossfarers.errors import PlanTooLong, Repeated, SameTown, TooMany, UnlikeFrames
 from crossfarers.shapes import LAST_DAY, MOST_TRAVELLERS, is_day, is_name
 from crossfarers.worlds import Web, World
@@ -48,7 +50,7 @@ def town_joined(world, keep, gone):
 
 def chosen(world, names):
     """Return the world with the plans of these travellers alone."""
-    check(is_choice(names), "names")
+    check(is_name_list(names, MOST_TRAVELLERS) and len(names) >= 1, "names")
     return World(world.web, {name: world[name] for name in names})
 
 
@@ -68,13 +70,6 @@ def united(world, other):
 def is_renaming(value):
     """Tell whether the value is a list or tuple of pairs of an old and a new name, with unlike old names."""
     return are_name_pairs(value) and are_unlike([old for old, _ in value])
-
-
-def is_choice(value):
-    """Tell whether the value is a list of one or more unlike names, but not too many."""
-    if not isinstance(value, list) or not 1 <= len(value) <= MOST_TRAVELLERS:
-        return False
-    return are_names(value) and are_unlike(value)
 
 
 def new_names(names, pairs):

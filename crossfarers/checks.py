@@ -37,6 +37,11 @@ def are_names(values):
     return all([is_name(value) for value in values])
 
 
+def is_name_list(value, limit):
+    """Tell whether the value is a list of unlike names, and has no more of them than the limit."""
+    return isinstance(value, list) and len(value) <= limit and are_names(value) and are_unlike(value)
+
+
 def first_repeated(things):
     """Return the first thing that stood before, or None if there is none."""
     seen = set()

@@ -1,7 +1,7 @@
 """How many travellers can pass a goal or keep away from it, cuts that prove it, and the ways of one traveller."""
 
 from crossfarers.bags import counted
-from crossfarers.checks import are_names, are_unlike, check, check_town, check_traveller
+from crossfarers.checks import check, check_town, check_traveller, is_name_list
 from crossfarers.deeds import done
 from crossfarers.ledgers import ledger_of, led_on, legs_of, users, world_led_on
 from crossfarers.shapes import END, MOST_TRAVELLERS, is_crossing, is_leg, is_name, is_number
@@ -13,17 +13,13 @@ SINK = "sink"
 
 def passing(world, names, goal, *, around=False):
     """Return the told travellers who pass the goal in this world, or do not if `around`, ascending."""
-    check_shapes(names, goal)
-    check(isinstance(around, bool), "around")
-    check_known(world, names, goal)
+    check_question(world, names, goal, around)
     return [name for name in sorted(names) if passes(world[name], goal) != around]
 
 
 def most(world, names, goal, *, around=False):
     """Return the greatest number of told travellers who pass the goal in a world of the class, or do not."""
-    check_shapes(names, goal)
-    check(isinstance(around, bool), "around")
-    check_known(world, names, goal)
+    check_question(world, names, goal, around)
     arcs = arcs_of(world, names, goal, around)
     left = left_of(arcs)
     return sum([number - left[arc] for arc, number in arcs.items() if arc[0] == SOURCE])
@@ -31,9 +27,7 @@ def most(world, names, goal, *, around=False):
 
 def most_world(world, names, goal, *, around=False):
     """Return a world of the class in which as many told travellers as can pass the goal, or do not."""
-    check_shapes(names, goal)
-    check(isinstance(around, bool), "around")
-    check_known(world, names, goal)
+    check_question(world, names, goal, around)
     arcs = arcs_of(world, names, goal, around)
     left = left_of(arcs)
     numbers = {}
@@ -50,9 +44,7 @@ def most_world(world, names, goal, *, around=False):
 
 def least_cut(world, names, goal, *, around=False):
     """Return a cut whose size is the most."""
-    check_shapes(names, goal)
-    check(isinstance(around, bool), "around")
-    check_known(world, names, goal)
+    check_question(world, names, goal, around)
     found = reached_in(left_of(arcs_of(world, names, goal, around)))
     return sorted([node for node in found if node != SOURCE])
 
@@ -118,9 +110,16 @@ def bring_history(world, name, crossing):
     return history
 
 
+def check_question(world, names, goal, around):
+    """Raise what is wrong with a question that has no other parameters, if anything is."""
+    check_shapes(names, goal)
+    check(isinstance(around, bool), "around")
+    check_known(world, names, goal)
+
+
 def check_shapes(names, goal):
     """Raise BadShape unless these are told travellers and a goal."""
-    check(isinstance(names, list) and len(names) <= MOST_TRAVELLERS and are_names(names) and are_unlike(names), "names")
+    check(is_name_list(names, MOST_TRAVELLERS), "names")
     check(is_goal(goal), "goal")
 
 

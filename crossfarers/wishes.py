@@ -6,9 +6,9 @@ from crossfarers.bags import Bag
 from crossfarers.checks import check, check_town, check_traveller
 from crossfarers.classes import class_worlds
 from crossfarers.ledgers import ledger_of, legs_of, world_led_on
-from crossfarers.shapes import END, MOST_TRAVELLERS, is_leg, is_name, is_number, is_plan, is_sighting, is_tuple_of
+from crossfarers.shapes import END, is_leg, is_name, is_number, is_sighting, is_tuple_of
 from crossfarers.verdicts import one_class
-from crossfarers.worlds import World
+from crossfarers.worlds import World, are_plans
 
 MOST_SIGHTINGS = 12
 
@@ -73,16 +73,9 @@ def world_met(world, sightings):
 
 def check_wishes(world, wishes):
     """Raise BadShape or UnknownTraveller unless these are wishes for travellers of the world."""
-    check(are_wishes(wishes), "wishes")
+    check(are_plans(wishes), "wishes")
     for name in sorted(wishes):
         check_traveller(world, name)
-
-
-def are_wishes(value):
-    """Tell whether the value is a dict of names to plans, but not too many."""
-    if not isinstance(value, dict) or len(value) > MOST_TRAVELLERS:
-        return False
-    return all([is_name(name) and is_plan(plan) for name, plan in value.items()])
 
 
 def check_sightings(world, sightings):

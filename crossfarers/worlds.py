@@ -69,7 +69,7 @@ class World:
     """A web, and travellers in it, each with a plan."""
 
     def __init__(self, web, plans):
-        check(are_plans(plans), "plans")
+        check(are_plans(plans) and len(plans) >= 1, "plans")
         for name in sorted(plans):
             check_plan(web, plans[name])
         self._web = web
@@ -174,8 +174,8 @@ def near_towns(town, towns, ways):
 
 
 def are_plans(value):
-    """Tell whether the value is a dict of one name or more, but not too many, to plans."""
-    if not isinstance(value, dict) or not 1 <= len(value) <= MOST_TRAVELLERS:
+    """Tell whether the value is a dict of names to plans, but not too many."""
+    if not isinstance(value, dict) or len(value) > MOST_TRAVELLERS:
         return False
     return all([is_name(name) and is_plan(plan) for name, plan in value.items()])
 
