@@ -115,14 +115,12 @@ def deed_ranks(world):
 
 def distances_in(graph, first):
     """Return for each rank the fewest steps in the graph from the first rank to it."""
-    found = {first: 0}
+    found = {}
     wave = [first]
+    number = 0
     while wave:
-        later = []
         for rank in wave:
-            for other in graph[rank]:
-                if other not in found:
-                    found[other] = found[rank] + 1
-                    later.append(other)
-        wave = later
+            found[rank] = number
+        wave = sorted({other for rank in wave for other in graph[rank] if other not in found})
+        number = number + 1
     return [found[rank] for rank in range(len(graph))]

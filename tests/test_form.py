@@ -40,6 +40,8 @@ METHODS = {
     },
 }
 LIBRARY = {"math": ("factorial",), "itertools": ("combinations",)}
+MODIFYING = ("append", "clear", "extend", "insert", "pop", "remove", "reverse", "setdefault", "sort", "update", "add",
+             "discard")
 
 
 def trees():
@@ -50,6 +52,41 @@ def trees():
 def defined(body, kind):
     """Return the names that a body defines as functions or classes."""
     return [part.name for part in body if isinstance(part, kind)]
+
+
+def names_for_one(function):
+    """Return the dict of each name of a function to all names that may stand for the same value."""
+    pairs = [(target.id, part.value.id) for part in ast.walk(function) if isinstance(part, ast.Assign)
+             for target in part.targets if isinstance(target, ast.Name) and isinstance(part.value, ast.Name)]
+    groups = {part.id: {part.id} for part in ast.walk(function) if isinstance(part, ast.Name)}
+    for here, there in pairs:
+        joined = groups[here] | groups[there]
+        for name in joined:
+            groups[name] = joined
+    return groups
+
+
+def walked_names(loop):
+    """Return the names over whose values a loop goes, also through zip, items and the like, but not through list."""
+    if isinstance(loop, ast.Name):
+        return [loop.id]
+    if isinstance(loop, ast.Call) and isinstance(loop.func, ast.Name):
+        within = loop.args if loop.func.id in ("zip", "enumerate", "reversed") else []
+        return [name for part in within for name in walked_names(part)]
+    if isinstance(loop, ast.Call) and isinstance(loop.func, ast.Attribute):
+        return walked_names(loop.func.value) if loop.func.attr in ("items", "keys", "values") else []
+    return []
+
+
+def modified_names(body):
+    """Return the names whose values a list of statements modifies by a method, an item or a deletion."""
+    found = []
+    for part in [part for row in body for part in ast.walk(row)]:
+        if isinstance(part, ast.Call) and isinstance(part.func, ast.Attribute) and part.func.attr in MODIFYING:
+            found.append(part.func.value)
+        if isinstance(part, ast.Subscript) and not isinstance(part.ctx, ast.Load):
+            found.append(part.value)
+    return [part.id for part in found if isinstance(part, ast.Name)]
 
 
 class FormTest(unittest.TestCase):
@@ -114,6 +151,15 @@ class FormTest(unittest.TestCase):
                     self.assertNotIn(part.arg, taken, name)
                 if isinstance(part, ast.Name) and isinstance(part.ctx, ast.Store):
                     self.assertNotIn(part.id, taken, name)
+
+    def test_what_a_loop_walks_is_not_modified_in_it(self):
+        for name, tree in trees():
+            for function in [part for part in ast.walk(tree) if isinstance(part, ast.FunctionDef)]:
+                groups = names_for_one(function)
+                for loop in [part for part in ast.walk(function) if isinstance(part, ast.For)]:
+                    modified = modified_names(loop.body)
+                    for walked in walked_names(loop.iter):
+                        self.assertFalse(groups[walked] & set(modified), (name, function.name, walked))
 
     def test_module_level_holds_definitions_and_plain_constants(self):
         for name, tree in trees():
