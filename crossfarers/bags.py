@@ -79,6 +79,14 @@ def counted(numbers):
     return bag
 
 
+def added(pairs):
+    """Return the bag of the things of pairs of a thing and a number; the numbers of equal things are added."""
+    numbers = {}
+    for thing, number in pairs:
+        numbers[thing] = numbers.get(thing, 0) + number
+    return counted(numbers)
+
+
 def is_thing(value):
     """Tell whether the value is a text, a whole number or a tuple of things."""
     if isinstance(value, tuple):

@@ -1,7 +1,7 @@
 """What several files of the package check in the same way."""
 
 from crossfarers.errors import BadShape, UnknownTown, UnknownTraveller
-from crossfarers.shapes import is_name, is_tuple_of
+from crossfarers.shapes import END, is_name, is_tuple_of
 
 
 def check(fits, parameter):
@@ -16,10 +16,23 @@ def check_town(towns, town):
         raise UnknownTown(town)
 
 
+def check_place(towns, place):
+    """Raise UnknownTown if the place is a town, but not among the towns."""
+    if place != END:
+        check_town(towns, place)
+
+
 def check_traveller(world, name):
     """Raise UnknownTraveller unless the world has the traveller."""
     if name not in world:
         raise UnknownTraveller(name)
+
+
+def check_sighted(world, sightings):
+    """Raise what the world does not know of the first sighting that has an unknown traveller or town."""
+    for name, _, place in sightings:
+        check_traveller(world, name)
+        check_place(world.web, place)
 
 
 def is_series(value):

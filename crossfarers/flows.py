@@ -1,7 +1,7 @@
 """How many travellers can pass a goal or keep away from it, cuts that prove it, and the ways of one traveller."""
 
 from crossfarers.bags import counted
-from crossfarers.checks import check, check_town, check_traveller, is_name_list
+from crossfarers.checks import check, check_place, check_town, check_traveller, is_name_list
 from crossfarers.deeds import done
 from crossfarers.ledgers import ledger_of, led_on, legs_of, users, world_led_on
 from crossfarers.shapes import END, MOST_TRAVELLERS, is_crossing, is_leg, is_name, is_number
@@ -139,9 +139,8 @@ def check_known(world, names, goal):
     """Raise what the world does not know: the first traveller, or else the first town of the goal."""
     for name in names:
         check_traveller(world, name)
-    for town in goal[1:]:
-        if town != END:
-            check_town(world.web, town)
+    for place in goal[1:]:
+        check_place(world.web, place)
 
 
 def passes(plan, goal):

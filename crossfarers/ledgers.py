@@ -1,7 +1,7 @@
 """Legs and ledgers, and the first world that has a ledger."""
 
-from crossfarers.bags import Bag, counted
-from crossfarers.checks import are_name_pairs, are_unlike, check, check_town
+from crossfarers.bags import Bag, added
+from crossfarers.checks import are_name_pairs, are_unlike, check, check_place, check_town
 from crossfarers.errors import NoWay, Unbalanced
 from crossfarers.shapes import END, MOST_TRAVELLERS, is_crossing, is_leg, is_plan
 from crossfarers.worlds import World
@@ -107,27 +107,20 @@ def world_led_on(web, rows, legs):
 
 def leaving(legs):
     """Return the bag of the crossings that the legs leave, each once for each use."""
-    numbers = {}
-    for (day, here, _), number in legs:
-        numbers[(day, here)] = numbers.get((day, here), 0) + number
-    return counted(numbers)
+    return added([(leg[:2], number) for leg, number in legs])
 
 
 def arriving(starts, legs):
     """Return the bag of the crossings that the starts and the legs lead to, each once for each use."""
-    numbers = {}
-    for (day, _, there), number in legs:
-        if there != END:
-            numbers[(day + 1, there)] = numbers.get((day + 1, there), 0) + number
-    return counted(numbers) + Bag([(0, town) for _, town in starts])
+    heads = [((day + 1, there), number) for (day, _, there), number in legs if there != END]
+    return added([((0, town), 1) for _, town in starts] + heads)
 
 
 def check_leg_towns(web, leg):
     """Raise UnknownTown for the first town of the leg that the web does not have."""
     _, here, there = leg
     check_town(web, here)
-    if there != END:
-        check_town(web, there)
+    check_place(web, there)
 
 
 def are_plan_legs(value):

@@ -35,21 +35,22 @@ def parity(world, target):
 def has_length(world, target, number):
     """Tell whether a history of exactly this number of deeds leads to the target."""
     check(is_number(number), "number")
-    return is_length(world, number, fewest(world, target))
+    return is_length(length_rule(world), number, fewest(world, target))
 
 
 def lengths_upto(world, target, bound):
     """Return all numbers of deeds up to the bound that a history to the target may have."""
     check(is_number(bound) and bound <= MOST_DEEDS, "bound")
     least = fewest(world, target)
-    return [number for number in range(bound + 1) if is_length(world, number, least)]
+    rule = length_rule(world)
+    return [number for number in range(bound + 1) if is_length(rule, number, least)]
 
 
 def history_of_length(world, target, number):
     """Return a history of exactly this number of deeds that leads to the target."""
     check(is_number(number), "number")
     history = least_history(world, target)
-    if not is_length(world, number, len(history)):
+    if not is_length(length_rule(world), number, len(history)):
         raise NoLength(number)
     if number > MOST_DEEDS:
         raise TooMany("deeds", number)
@@ -59,9 +60,8 @@ def history_of_length(world, target, number):
     return idling * (number - len(history)) + history
 
 
-def is_length(world, number, least):
-    """Tell whether a history may have the number of deeds if the fewest number is the least one."""
-    rule = length_rule(world)
+def is_length(rule, number, least):
+    """Tell whether a history may have the number of deeds by the length rule and the fewest number."""
     if rule == "zero" or number < least:
         return number == least
     return rule == "all" or (number - least) % 2 == 0

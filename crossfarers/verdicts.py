@@ -2,8 +2,8 @@
 
 from crossfarers.deeds import done, is_leading
 from crossfarers.errors import UnlikeClasses
-from crossfarers.ledgers import crossings_of, ledger_of, legs_of, standing, starts_of
-from crossfarers.shapes import is_leg, is_number, is_tuple_of
+from crossfarers.ledgers import crossings_of, ledger_of, standing, starts_of
+from crossfarers.shapes import END, is_leg, is_number, is_tuple_of
 from crossfarers.worlds import check_frames
 
 
@@ -25,7 +25,7 @@ def unlike_legs(world, target):
 def verdict(world, target):
     """Return a paper that says whether the target comes of the world, and why."""
     if one_class(world, target):
-        return ("history", sorted_deeds(world, target))
+        return ("history", sorted_deeds(world, target, world.web.towns))
     for name, plan in world:
         if plan[0] != target.begin(name):
             return ("start", name, plan[0], target.begin(name))
@@ -42,13 +42,15 @@ def is_verdict(world, target, paper):
     form, thing, first, second = paper
     if form == "start":
         return are_unlike_starts(world, target, thing, first, second)
-    return form == "leg" and are_unlike_numbers(world, target, thing, first, second)
+    if form != "leg" or not is_leg(thing):
+        return False
+    return are_unlike_numbers(ledger_of(world), ledger_of(target), thing, first, second)
 
 
 def sorted_history(world, target):
     """Return the sorted history from the world to the target."""
     check_class(world, target)
-    return sorted_deeds(world, target)
+    return sorted_deeds(world, target, world.web.towns)
 
 
 def check_class(world, target):
@@ -57,24 +59,32 @@ def check_class(world, target):
         raise UnlikeClasses(verdict(world, target))
 
 
-def sorted_deeds(world, target):
-    """Return the sorted history between two worlds of one class."""
+def sorted_deeds(world, target, open_towns):
+    """Return the sorted history in the open towns, in which deeds lead from the world to the target.
+
+    If all towns are open, the stretches are the legs.
+    """
     history = []
     present = world
-    for crossing in crossings_of(world):
-        names = standing(present, crossing)
+    for day, town in crossings_of(world):
+        names = standing(present, (day, town)) if town in open_towns else []
         for at, x in enumerate(names):
-            later = [y for y in names[at:] if leg_on(present, y, crossing[0]) == leg_on(target, x, crossing[0])]
-            if later[0] != x:
-                deed = (x, later[0], crossing[0])
-                history.append(deed)
-                present = done(present, deed)
+            wanted = stretch_from(target[x], day, open_towns)
+            y = [name for name in names[at:] if stretch_from(present[name], day, open_towns) == wanted][0]
+            if y != x:
+                history.append((x, y, day))
+                present = done(present, (x, y, day))
     return history
 
 
-def leg_on(world, name, day):
-    """Return the leg that the traveller uses on the day."""
-    return legs_of(world[name])[day]
+def stretch_from(plan, day, open_towns):
+    """Return the stretch of the plan from the day on: its stops up to the next open town, or to END."""
+    stops = plan[day:day + 1]
+    for town in plan[day + 1:]:
+        stops = stops + (town,)
+        if town in open_towns:
+            return (day, stops)
+    return (day, stops + (END,))
 
 
 def are_unlike_starts(world, target, name, town, other):
@@ -82,8 +92,8 @@ def are_unlike_starts(world, target, name, town, other):
     return name in world and world.begin(name) == town and target.begin(name) == other and town != other
 
 
-def are_unlike_numbers(world, target, leg, number, other):
-    """Tell whether the leg occurs in the two ledgers with these unlike numbers."""
-    if not is_leg(leg) or not is_number(number) or not is_number(other):
+def are_unlike_numbers(first, second, thing, number, other):
+    """Tell whether the thing occurs in the two bags with these unlike numbers."""
+    if not is_number(number) or not is_number(other):
         return False
-    return ledger_of(world)[leg] == number and ledger_of(target)[leg] == other and number != other
+    return first[thing] == number and second[thing] == other and number != other

@@ -3,7 +3,7 @@
 from itertools import combinations
 
 from crossfarers.bags import Bag
-from crossfarers.checks import check, check_town, check_traveller
+from crossfarers.checks import check, check_sighted, check_traveller
 from crossfarers.classes import class_worlds
 from crossfarers.ledgers import ledger_of, legs_of, world_led_on
 from crossfarers.shapes import END, is_leg, is_name, is_number, is_sighting, is_tuple_of
@@ -58,13 +58,15 @@ def most_wishes(world, wishes):
 
 def meets(world, sightings):
     """Tell whether the world meets all sightings."""
-    check_sightings(world, sightings)
+    check(are_sightings(sightings), "sightings")
+    check_sighted(world, sightings)
     return all([world.place(name, day) == place for name, day, place in sightings])
 
 
 def world_met(world, sightings):
     """Return the world of least rank in the class that meets all sightings, or None."""
-    check_sightings(world, sightings)
+    check(are_sightings(sightings), "sightings")
+    check_sighted(world, sightings)
     for one in class_worlds(world):
         if meets(one, sightings):
             return one
@@ -76,15 +78,6 @@ def check_wishes(world, wishes):
     check(are_plans(wishes), "wishes")
     for name in sorted(wishes):
         check_traveller(world, name)
-
-
-def check_sightings(world, sightings):
-    """Raise BadShape, or what the world does not know of the first sighting that has something unknown."""
-    check(are_sightings(sightings), "sightings")
-    for name, _, place in sightings:
-        check_traveller(world, name)
-        if place != END:
-            check_town(world.web, place)
 
 
 def are_sightings(value):

@@ -80,14 +80,19 @@ def plain_done(plans, deed):
     return made
 
 
-def reached(world):
-    """Return the dict of the rows of each world that comes of the world to the fewest deeds, found by searching."""
+def reached(world, towns=None):
+    """Return the dict of the rows of each world that comes of the world to the fewest deeds, found by searching.
+
+    If towns are told, only deeds in these towns are done.
+    """
     found = {world.rows: 0}
     wave = [world.rows]
     while wave:
         later = []
         for rows in wave:
             for deed in plain_deeds(dict(rows)):
+                if towns is not None and dict(rows)[deed[0]][deed[2]] not in towns:
+                    continue
                 made = tuple(sorted(plain_done(dict(rows), deed).items()))
                 if made not in found:
                     found[made] = found[rows] + 1

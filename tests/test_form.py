@@ -29,6 +29,13 @@ FUNCTIONS = {
     "wishes": ("grant", "is_grant", "overbooked", "most_wishes", "meets", "world_met"),
     "flows": ("passing", "most", "most_world", "least_cut", "cut_size", "is_cut", "may_pass", "must_pass",
               "way_through", "way_around", "bring_history"),
+    "fronts": ("front_of", "rest_book", "front_ledger", "rest_ledger", "glued", "telling_leg", "alike_behind"),
+    "stretches": ("stretch_book", "first_stretches", "one_class_within", "class_count_within", "length_rule_within",
+                  "verdict_within", "is_verdict_within"),
+    "canon": ("profile", "town_orders", "canonical_table", "canonical_order", "town_pairing", "is_town_pairing",
+              "traveller_pairing"),
+    "diaries": ("is_run", "fit_run", "first_unfit", "may_be", "must_be", "wrong_number", "least_wrong",
+                "is_wrong_set", "wrong_table", "is_wrong_table"),
 }
 METHODS = {
     "bags": {"Bag": ("__init__", "__getitem__", "__contains__", "__iter__", "__add__", "__sub__", "__eq__", "many",
@@ -38,8 +45,9 @@ METHODS = {
         "World": ("__init__", "web", "names", "plans", "rows", "last_day", "__getitem__", "place", "begin", "last",
                   "rest", "__contains__", "__iter__", "__eq__"),
     },
+    "diaries": {"Diary": ("__init__", "gaps", "notes", "moments", "upto", "without", "__eq__")},
 }
-LIBRARY = {"math": ("factorial",), "itertools": ("combinations",)}
+LIBRARY = {"math": ("factorial",), "itertools": ("combinations", "permutations")}
 MODIFYING = ("append", "clear", "extend", "insert", "pop", "remove", "reverse", "setdefault", "sort", "update", "add",
              "discard")
 
