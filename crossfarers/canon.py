@@ -4,7 +4,7 @@ from itertools import permutations
 from math import factorial
 
 from crossfarers.bags import added
-from crossfarers.checks import are_name_pairs, check, check_town
+from crossfarers.checks import are_name_pairs, check
 from crossfarers.errors import TooMany
 from crossfarers.ledgers import ledger_of, standing
 from crossfarers.shapes import END, LAST_DAY, is_name
@@ -15,7 +15,6 @@ MOST_ORDERS = 24
 def profile(world, town):
     """Return the sizes of the crossings of the town on all days."""
     check(is_name(town), "town")
-    check_town(world.web, town)
     return tuple([len(standing(world, (day, town))) for day in range(LAST_DAY + 1)])
 
 
@@ -29,8 +28,9 @@ def town_orders(world):
         raise TooMany("orders", number)
     orders = [()]
     for group in groups:
+        # The permutations of an ascending list ascend, and so do the orders.
         orders = [order + part for order in orders for part in permutations(group)]
-    return sorted(orders)
+    return orders
 
 
 def canonical_table(world):

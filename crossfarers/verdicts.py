@@ -4,7 +4,7 @@ from crossfarers.deeds import done, is_leading
 from crossfarers.errors import UnlikeClasses
 from crossfarers.ledgers import crossings_of, ledger_of, standing, starts_of
 from crossfarers.shapes import END, is_leg, is_number, is_tuple_of
-from crossfarers.worlds import check_frames
+from crossfarers.worlds import World, check_frames
 
 
 def one_class(world, target):
@@ -57,6 +57,13 @@ def check_class(world, target):
     """Raise UnlikeFrames or UnlikeClasses unless both worlds are of one class."""
     if not one_class(world, target):
         raise UnlikeClasses(verdict(world, target))
+
+
+def is_of_class(world, value):
+    """Tell whether the value is a world of the frame and the class of the world."""
+    if not isinstance(value, World) or value.web != world.web or value.names != world.names:
+        return False
+    return one_class(world, value)
 
 
 def sorted_deeds(world, target, open_towns):

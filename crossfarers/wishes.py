@@ -7,8 +7,8 @@ from crossfarers.checks import check, check_sighted, check_traveller
 from crossfarers.classes import class_worlds
 from crossfarers.ledgers import ledger_of, legs_of, world_led_on
 from crossfarers.shapes import END, is_leg, is_name, is_number, is_sighting, is_tuple_of
-from crossfarers.verdicts import one_class
-from crossfarers.worlds import World, are_plans
+from crossfarers.verdicts import is_of_class
+from crossfarers.worlds import are_plans
 
 MOST_SIGHTINGS = 12
 
@@ -100,9 +100,7 @@ def granted(world, wishes):
 
 def is_granting(world, wishes, other):
     """Tell whether this is a world of the class that grants the wishes."""
-    if not isinstance(other, World) or other.web != world.web or other.names != world.names:
-        return False
-    return one_class(world, other) and all([other[name] == plan for name, plan in wishes.items()])
+    return is_of_class(world, other) and all([other[name] == plan for name, plan in wishes.items()])
 
 
 def is_wrong_start(world, wishes, name, town, start):

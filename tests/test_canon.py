@@ -205,6 +205,12 @@ class TownPairingTest(Case):
         self.assertIs(town_pairing(world, single), None)
         self.assertIs(is_town_pairing(world, single, [("m", "m"), ("p", "p")]), False)
 
+    def test_two_towns_are_never_paired_with_one(self):
+        world, other = lone_towns(2), World(Web(["c"]), {"x": ("c",), "y": ("c",)})
+        self.assertIs(is_town_pairing(world, other, [("a", "c"), ("b", "c")]), False)
+        self.assertIs(is_town_pairing(other, world, [("c", "a"), ("c", "b")]), False)
+        self.assertIs(town_pairing(world, other), None)
+
     def test_too_many_for_the_first_then_the_second(self):
         plain = meeting_world()
         self.refused(TooMany, {"what": "orders", "number": 120}, town_pairing, lone_towns(5), lone_towns(6))

@@ -221,6 +221,8 @@ class GluedTest(Case):
             long = [("ann", ("m",) * (day + 2))]
             self.misshapen("front", glued, web, day, long, Bag())
             self.misshapen("front", front_ledger, day, long)
+            self.misshapen("front", front_ledger, day, long + [("bob", ("m",))])
+            self.misshapen("front", front_ledger, day, [("abe", ("m",))] + long)
             self.same(front_ledger(day + 1, long).many, day + 1)
             rests = Bag([("m", ("m",) * (6 - day))])
             self.same(rest_ledger(day, rests).many, 7 - day)

@@ -300,7 +300,12 @@ class VerdictTest(Case):
         self.assertIs(judge("stretch", (True, ("m", "m")), 0, 1), False)
         self.assertIs(judge("stretch", (0, ("p", "m")), 1, 0), False)
         self.assertIs(judge("stretch", (0, ("m",)), 1, 0), False)
+        self.assertIs(judge("first", "bob", (False, ("m",)), (0, ("p", "q", "-"))), False)
+        self.assertIs(judge("first", "bob", (0, ("m",)), (False, ("p", "q", "-"))), False)
         self.assertIs(judge("leg", (0, "m", "p"), 2, 1), False)
+        self.assertIs(judge("leg", (1, ("m", "m")), 0, 1), False)
+        self.assertIs(judge("history", (1, ("m", "m")), 0, 1), False)
+        self.assertIs(judge("start", "bob", (0, ("m",)), (0, ("p", "q", "-"))), False)
         self.assertIs(judge("start", "bob", "m", "p"), False)
         self.assertIs(judge("stretch", (1, ("m", "-")), 1, 0), True)
         for name in (*NO_NAMES, "zoe"):
