@@ -2,10 +2,9 @@
 
 from crossfarers.checks import check, check_traveller
 from crossfarers.claims import is_claim, judged
-from crossfarers.deeds import check_fit, done
+from crossfarers.deeds import check_fit, done, refusal
 from crossfarers.errors import (
-    BadRow, LastTraveller, NoStep, NothingToUndo, NoWay, PlanOver, Repeated, SameTraveller, TooMany, UnknownTown,
-    UnknownTraveller, UnlikeFrames, UnlikeTowns,
+    BadRow, LastTraveller, NoStep, NothingToUndo, NoWay, Repeated, TooMany, UnknownTown, UnknownTraveller, UnlikeFrames,
 )
 from crossfarers.shapes import MOST_TRAVELLERS, is_day, is_deed, is_name, is_number, is_plan, is_tuple_of
 from crossfarers.worlds import World, check_plan
@@ -111,7 +110,7 @@ class Book:
     def twin(self):
         """Return an equal book of its own."""
         book = Book(self.opening)
-        for row, world in zip(self._rows, self._worlds[1:]):
+        for row, world in zip(list(self._rows), self._worlds[1:]):
             book._enter(row, world)
         return book
 
@@ -166,16 +165,13 @@ def wrong_with(book, row):
         return "TooMany"
     if not is_row(row):
         return "BadShape"
+    reason = refusal(book.world, row[1:]) if row[0] == "exchange" else None
+    if reason is not None:
+        return reason
     try:
         right = entered(book, row)
     except UnknownTraveller:
         return "UnknownTraveller"
-    except SameTraveller:
-        return "SameTraveller"
-    except PlanOver:
-        return "PlanOver"
-    except UnlikeTowns:
-        return "UnlikeTowns"
     except Repeated:
         return "Repeated"
     except UnknownTown:

@@ -161,7 +161,7 @@ class Course:
 
     def stop(self, at, reason):
         """Raise ErrandStopped at the line of an index."""
-        raise ErrandStopped(at + 1, reason, list(self.history))
+        raise ErrandStopped(at + 1, reason, self.history)
 
 
 def read_rows(text):

@@ -2,7 +2,7 @@
 
 from crossfarers.bags import Bag
 from crossfarers.checks import check
-from crossfarers.deeds import check_step, crossing_of, refusal, replay, rests_exchanged
+from crossfarers.deeds import check_step, crossing_of, replay, rests_exchanged
 from crossfarers.errors import NoShuffle, NotJoining, StepRefused
 from crossfarers.ledgers import crossings_of, standing
 from crossfarers.orders import exchanges, is_table

@@ -9,7 +9,7 @@ from crossfarers.errors import BadErrand, ErrandStopped
 from crossfarers.flows import bring_history
 from crossfarers.worlds import Web, World
 from tests.helpers import Case
-from tests.samples import example, full_world, meeting_world, plain_deeds, plain_done
+from tests.samples import full_world, meeting_world, plain_done
 
 BLOCKS = ("if at ann 0 m", "while over ann 6", "until at ann 0 m", "each $v 0 m")
 

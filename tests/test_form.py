@@ -154,6 +154,14 @@ class FormTest(unittest.TestCase):
                     self.assertIsNone(word.asname, name)
                     self.assertTrue(word.name in homes[home] or word.name.isupper(), (name, word.name))
 
+    def test_imports_are_used(self):
+        for name, tree in trees():
+            used = {part.id for part in ast.walk(tree) if isinstance(part, ast.Name)}
+            for part in ast.walk(tree):
+                if isinstance(part, ast.ImportFrom):
+                    for word in part.names:
+                        self.assertIn(word.name, used, name)
+
     def test_the_interface_is_defined_in_its_files(self):
         bodies = {name: tree.body for name, tree in trees()}
         for name, functions in FUNCTIONS.items():

@@ -11,7 +11,7 @@ from crossfarers.fronts import (
 )
 from crossfarers.ledgers import ledger_of
 from crossfarers.verdicts import one_class
-from crossfarers.worlds import Web, World
+from crossfarers.worlds import Web
 from tests.helpers import Case
 from tests.samples import NO_DAYS, NO_NUMBERS, example, full_world, meeting_world, small_worlds, worlds_reached
 

@@ -12,7 +12,7 @@ from crossfarers.repairs import changed, differing, distance, is_repair, least_r
 from crossfarers.verdicts import one_class
 from crossfarers.worlds import Web, World
 from tests.helpers import Case
-from tests.samples import example, full_world, meeting_world, same_plans, small_worlds
+from tests.samples import example, full_world, meeting_world, small_worlds
 from tests.test_classes import listed_world
 
 NO_CHANGES = (
