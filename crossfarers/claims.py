@@ -54,8 +54,9 @@ def is_right_fewest(world, claim):
     _, target, number, history, table = claim
     if not is_of_class(world, target):
         return False
+    # Whether the search is too great is asked ahead of all other parts.
     check_search(world, target)
-    if not is_number(number) or not is_leading(world, target, history) or len(history) != number:
+    if not is_leading(world, target, history) or len(history) != number:
         return False
     return is_bound_table(world, target, table, number)
 

@@ -27,6 +27,8 @@ NO_ROWS = (
     ("come", None, ("m",)), ("come", "fay", ("m",) * 8), ("come", "fay", ("-",)), ("go",), ("go", "A"), ("go", None),
     ("go", "ann", 0), ("go", ["ann"]), ("claim",), ("claim", ("grant", {}, None)), ("claim", ("grant", {}, None), 0),
     ("claim", ("grant", {}, None), 1), ("claim", ("grant", {}, None), None), ("claim", ("grant", {}, None), False, 0),
+    ("say", ("grant", {}, None), False), ("", ("grant", {}, None), False),
+    (meeting_world(), ("grant", {}, None), False),
     ("claim", None, False), ("claim", ("grant", {}), False), ("claim", ["grant", {}, None], False), ("undo",),
     ("claim", ("class", None, None), False), ("run", "bring ann 0 m"), meeting_world(), Errand(""),
 )
